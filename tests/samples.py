@@ -1,0 +1,54 @@
+"""What several tests use: nets, odd values, and a case that checks errors with their fields."""
+
+import unittest
+
+from evenends.books import Book
+from evenends.houses import House
+from evenends.nets import Net
+from evenends.parts import Door, Tally
+from evenends.stations import Station
+from evenends.vectors import Vector
+
+LINES = ["door d j k", "station j g>q h>b", "book one k>g:u", "book two k>g:v,h:o"]
+PLAIN = Net.read("\n".join(LINES + ["station q s>a", "book only u>s:o", "tally a o=1", "tally b o=1"]))
+KEPT = PLAIN.as_keeper("q")
+FRAIL = KEPT.as_frail("q")
+
+# Values that are neither names nor integers, nor dicts, lists or tuples of use.
+ODD = [None, True, False, "", "A", "self", "abcdefghi", "a b", "a\n", "\n", "1", "a=1", [], ["a"], [[]], (), ("a",),
+       (("a",), {}), {}, {"a": 1}, {"a": []}, Vector(), Vector(a=1), Book(), Book(k={"w": "o"}), Net(), House(Net()),
+       Door("a", "b", "k"), Tally("a"), Station("a", {}, ("b", Book()))]
+
+INTEGERS = [0, 1, -1, 7, 10 ** 59, -(10 ** 60) + 1]
+
+NO_NAMES = ODD + INTEGERS
+
+NAMES = ["a", "z", "abcdefgh", "selfs", "sel", "mod", "cls", "name", "numbers", "rows", "goal"]
+
+
+def fields_of(error):
+    return {key: value for key, value in vars(error).items() if not key.startswith("__")}
+
+
+class Case(unittest.TestCase):
+    """A test case that looks at errors closely."""
+
+    def refused(self, kind, fields, function, *args, **more):
+        """Checks that a call raises an error of just this class with just these fields."""
+        with self.assertRaises(kind) as caught:
+            function(*args, **more)
+        self.assertIs(type(caught.exception), kind)
+        told = fields_of(caught.exception)
+        self.assertEqual(set(told), set(fields))
+        for key, value in fields.items():
+            self.alike(told[key], value)
+
+    def alike(self, one, other):
+        """Checks that two values are equal and of one class, so that True is not 1."""
+        self.assertIs(type(one), type(other))
+        self.assertEqual(one, other)
+
+    def ascends(self, table, expected):
+        """Checks a dict together with the order of its keys."""
+        self.assertIs(type(table), dict)
+        self.assertEqual(list(table.items()), list(expected.items()))
