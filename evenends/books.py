@@ -12,7 +12,7 @@ class Book:
         check_rows(rows)
         self._rows = {kind: in_order(rows[kind]) for kind in sorted(rows) if rows[kind]}
         self.kinds = tuple(self._rows)
-        self.wires = tuple(sorted({wire for row in self._rows.values() for wire in row}))
+        self._wires = tuple(sorted({wire for row in self._rows.values() for wire in row}))
 
     @classmethod
     def of(cls, rows):
@@ -30,6 +30,11 @@ class Book:
         """The book with this text."""
         rows = read_rows(line_of(text), 0)
         return cls(**rows)
+
+    @property
+    def wires(self):
+        """The ascending tuple of the wires that its rows lead."""
+        return self._wires
 
     def row(self, kind):
         """A new dict from wires to kinds, the row of a kind; empty for any other value."""

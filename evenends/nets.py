@@ -17,10 +17,10 @@ class Net:
         self._parts = {part.name: part for part in parts}
         self._goals = goals_of(parts)
         self._starts = starts_of(parts)
-        self.doors = tuple(sorted([part.name for part in parts if isinstance(part, Door)]))
-        self.stations = tuple(sorted([part.name for part in parts if isinstance(part, Station)]))
-        self.tallies = tuple(sorted([part.name for part in parts if isinstance(part, Tally)]))
-        self.wires = tuple(self._goals)
+        self._doors = tuple(sorted([part.name for part in parts if isinstance(part, Door)]))
+        self._stations = tuple(sorted([part.name for part in parts if isinstance(part, Station)]))
+        self._tallies = tuple(sorted([part.name for part in parts if isinstance(part, Tally)]))
+        self._wires = tuple(self._goals)
         self.kinds = tuple(sorted({kind for part in parts for kind in kinds_of(part)}))
 
     @classmethod
@@ -35,6 +35,26 @@ class Net:
         """The net with this text."""
         parts = read_parts(text)
         return cls(*parts)
+
+    @property
+    def doors(self):
+        """The ascending tuple of the names of the doors."""
+        return self._doors
+
+    @property
+    def stations(self):
+        """The ascending tuple of the names of the stations."""
+        return self._stations
+
+    @property
+    def tallies(self):
+        """The ascending tuple of the names of the tallies."""
+        return self._tallies
+
+    @property
+    def wires(self):
+        """The ascending tuple of all wires, those of doors included."""
+        return self._wires
 
     def __getitem__(self, at):
         if not isinstance(at, str) or at not in self._parts:

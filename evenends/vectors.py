@@ -12,7 +12,6 @@ class Vector:
         if not gives_integers(numbers):
             raise InvalidVector()
         self._numbers = kept_numbers(numbers)
-        self.names = tuple(self._numbers)
 
     @classmethod
     def of(cls, numbers):
@@ -36,6 +35,11 @@ class Vector:
         numbers = read_numbers(line, 0, VECTOR_DIGITS)
         return cls(**numbers)
 
+    @property
+    def names(self):
+        """The ascending tuple of the names with a number other than 0."""
+        return tuple(self._numbers)
+
     def __getitem__(self, at):
         if not isinstance(at, str):
             return 0
@@ -45,13 +49,13 @@ class Vector:
         raise TypeError("a vector is not iterated over, but its names are")
 
     def __len__(self):
-        return len(self.names)
+        return len(self._numbers)
 
     def __bool__(self):
-        return bool(self.names)
+        return bool(self._numbers)
 
     def __contains__(self, x):
-        return x in self.names
+        return isinstance(x, str) and x in self._numbers
 
     def __add__(self, other):
         numbers = plus(self._numbers, other._numbers, 1)
@@ -65,12 +69,12 @@ class Vector:
         return self * -1
 
     def __mul__(self, other):
-        numbers = {name: self._numbers[name] * other for name in self.names}
+        numbers = {name: self._numbers[name] * other for name in self._numbers}
         return Vector(**numbers)
 
     def dot(self, other):
         """The sum over all names of the products of the numbers of both."""
-        return sum([self[name] * other[name] for name in self.names])
+        return sum([self[name] * other[name] for name in self._numbers])
 
     def __eq__(self, other):
         return isinstance(other, Vector) and self._numbers == other._numbers

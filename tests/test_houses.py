@@ -293,7 +293,8 @@ class TestKeepers(Case):
         house.do(("book", "q", "more"), ("close", 0), ("settle",))
         self.assertEqual((house.tallies, house.known("q")), (Vector(), {}))
         plain = House(net.as_station("q"))
-        plain.do(("book", "j", "two"), ("open", "d", "k"), ("settle",), ("book", "q", "more"), ("close", 0), ("settle",))
+        plain.do(("book", "j", "two"), ("open", "d", "k"), ("settle",))
+        plain.do(("book", "q", "more"), ("close", 0), ("settle",))
         self.assertEqual(plain.tallies, Vector(a=-1))
 
     def test_rows_of_closed_items_stay(self):
@@ -327,7 +328,8 @@ class TestKeepers(Case):
         self.ascends(house.known("q"), {1: {}})
 
     def test_items_ascend_whatever_came_first(self):
-        net = Net.read("door d i k\ndoor e q k\nstation i g>q\nbook one k>g:k\nkeeper q s>a\nbook only k>s:o\ntally a o=1")
+        net = Net.read("door d i k\ndoor e q k\nstation i g>q\nbook one k>g:k\n"
+                       "keeper q s>a\nbook only k>s:o\ntally a o=1")
         house = House(net)
         house.do(("open", "d", "k"), ("open", "e", "k"), ("move", "e"), ("settle",))
         self.ascends(house.known("q"), {0: {"s": "o"}, 1: {"s": "o"}})

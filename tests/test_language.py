@@ -268,8 +268,8 @@ class TestClasses(unittest.TestCase):
 
     def test_names_of_methods_and_attributes(self):   # L5, L18, L23, L26
         for one, other in ((PLAIN_METHODS, PROPERTIES), (PLAIN_METHODS, OF_CLASSES), (PROPERTIES, OF_CLASSES),
-                           (PLAIN_METHODS, ATTRIBUTES), (OF_CLASSES, ATTRIBUTES), (VALUES, ATTRIBUTES),
-                           (VALUES, PLAIN_METHODS | PROPERTIES | OF_CLASSES)):
+                           (PLAIN_METHODS, ATTRIBUTES), (OF_CLASSES, ATTRIBUTES), (PROPERTIES, ATTRIBUTES),
+                           (VALUES, ATTRIBUTES), (VALUES, PLAIN_METHODS | PROPERTIES | OF_CLASSES)):
             self.assertFalse(one & other)
         for names in (PLAIN_METHODS - DUNDERS, PROPERTIES, OF_CLASSES, VALUES, ATTRIBUTES - {"index", "count"}):
             self.assertFalse(names & OF_BUILTIN_VALUES)

@@ -187,8 +187,10 @@ class TestInvalidNet(Case):
         for place, name in enumerate(names):
             goals = names[place + 1:place + 2] + ["ta", "tb", "tc"][:1 + (place < 5)]
             made = {next(wires): goal for goal in goals}
-            books = [(title, Book(**{kind: {wire: kinds[(at + n) % 6] for wire in made} for n, kind in enumerate(kinds)}))
-                     for at, title in enumerate(["ba", "bb", "bc", "bd"])]
+            books = []
+            for at, title in enumerate(["ba", "bb", "bc", "bd"]):
+                rows = {kind: {wire: kinds[(at + n) % 6] for wire in made} for n, kind in enumerate(kinds)}
+                books.append((title, Book(**rows)))
             parts.append(Station(name, made, *books))
         began = time.perf_counter()
         for _ in range(20):
@@ -205,8 +207,8 @@ class TestWhatNetsTell(Case):
                              (("d",), ("j", "q"), ("a", "b"), ("d", "g", "h", "s"), ("k", "o", "u", "v")))
 
     def test_they_ascend(self):
-        net = Net(Door("z", "y", "k"), Door("b", "y", "k"), station("y", {"x": "c", "a": "c"}), station("e", {"d": "c"}),
-                  Tally("f"), Tally("c"))
+        net = Net(Door("z", "y", "k"), Door("b", "y", "k"), station("y", {"x": "c", "a": "c"}),
+                  station("e", {"d": "c"}), Tally("f"), Tally("c"))
         self.assertEqual((net.doors, net.stations, net.tallies, net.wires),
                          (("b", "z"), ("e", "y"), ("c", "f"), ("a", "b", "d", "x", "z")))
 

@@ -9,7 +9,8 @@ from evenends.vectors import Vector
 from tests.samples import KEPT, NO_NAMES, PLAIN, Case
 
 TEXT = "open d k\nsettle\nbook j two\nclose 0\nmove d\nrestart q\nsettle"
-DEEDS = (("open", "d", "k"), ("settle",), ("book", "j", "two"), ("close", 0), ("move", "d"), ("restart", "q"), ("settle",))
+DEEDS = (("open", "d", "k"), ("settle",), ("book", "j", "two"), ("close", 0), ("move", "d"), ("restart", "q"),
+         ("settle",))
 
 
 class TestPlayed(Case):
