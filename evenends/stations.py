@@ -50,10 +50,11 @@ class Station:
         for first in self.books:
             for second in self.books:
                 for forgets in self.FORGETS:
-                    yield first, second, forgets, self._pairs(first, second, forgets, begin, end)
+                    yield first, second, forgets, self.outcome_by((first, second, forgets), begin, end)
 
-    def _pairs(self, first, second, forgets, begin, end):
-        """The outcome of the pair (begin, end) by a choice."""
+    def outcome_by(self, choice, begin, end):
+        """The outcome of the pair (begin, end) by a choice: a new dict from wires, ascending, to pairs."""
+        first, second, forgets = choice
         row = self._books[first].row(begin)
         if self.KEEPS and not forgets and begin is not None and end is not None:
             return {wire: (row[wire], row[wire]) for wire in row}

@@ -13,6 +13,17 @@ LINES = ["door d j k", "station j g>q h>b", "book one k>g:u", "book two k>g:v,h:
 PLAIN = Net.read("\n".join(LINES + ["station q s>a", "book only u>s:o", "tally a o=1", "tally b o=1"]))
 KEPT = PLAIN.as_keeper("q")
 FRAIL = KEPT.as_frail("q")
+HEAD = ["door d j x", "station j g>q", "book one x>g:z", "book two x>g:w", "keeper n s>a", "book only u>s:o"]
+TWO = Net.read("\n".join(HEAD + ["station q m>n t>b", "book one w>t:o z>m:u", "book two w>m:v,t:o z>t:o",
+                                 "tally a o=1", "tally b o=1"]))
+
+
+
+def switch(amount, kind="k"):
+    """A net in which one book of a station sends begins of k to a tally, and the other one nothing."""
+    return Net(Door("d", "s", kind), Station("s", {"w": "t"}, ("x", Book(k={"w": "k"})), ("y", Book())),
+               Tally("t", k=amount))
+
 
 # Values that are neither names nor integers, nor dicts, lists or tuples of use.
 ODD = [None, True, False, "", "A", "self", "abcdefghi", "a b", "a\n", "\n", "1", "a=1", [], ["a"], [[]], (), ("a",),

@@ -2,7 +2,8 @@
 
 import unittest
 
-from evenends import books, errors, houses, names, nets, parts, stations, stories, vectors
+from evenends import (books, courses, errors, houses, names, nets, pairs, parts, stations, stories, sumcheck, vectors,
+                      weightings)
 
 HEAD = r'''
 >>> LINES = ["door d j k", "station j g>q h>b", "book one k>g:u", "book two k>g:v,h:o"]
@@ -73,7 +74,51 @@ STORIES = r'''
 raises InvalidText(1, 1)
 '''
 
-MODULES = (books, errors, houses, names, nets, parts, stations, stories, vectors)
+COURSES = '''
+>>> course = Course(PLAIN, "d", "k", j=("one", "two"))
+>>> [course.pairs, str(course.begin), str(course.drift), course.passed]
+[{'d': ('k', 'k'), 'g': ('u', 'v'), 'h': (None, 'o'), 's': ('o', None)}, 'a=1', 'a=1 b=-1', ('j', 'q')]
+>>> other = Course(KEPT, "d", "k", j=("one", "two"))
+>>> [other.pairs["s"], str(other.drift), str(played(KEPT, other.story()).tallies)]
+[('o', 'o'), 'b=-1', 'b=-1']
+>>> Course(KEPT, "d", "k", q=("only", "only", True))
+raises InvalidCourse('forgets')
+'''
+
+PAIRS = '''
+>>> [pairs(PLAIN)["s"], pairs(KEPT)["s"], endless(KEPT), met(KEPT, "s", None, "o"), met(PLAIN, "s", None, "o").kind]
+[((None, 'o'), ('o', None), ('o', 'o')), (('o', 'o'),), (), None, 'k']
+'''
+
+WEIGHTINGS = '''
+>>> w = Weighting(modulo=4, a=1, b=-1)
+>>> [str(w), w(Vector(a=5, b=-5)), str(Weighting(a=-1, b=12)), w == Weighting.read("a + 3 b mod 4"), Weighting()(Vector(a=1))]
+['a + 3 b mod 4', 2, '- a + 12 b', True, 0]
+>>> [str(Weighting.of({"mod": 1, "modulo": 2}, 4)), Weighting.read("mod + 2 x").names]
+['mod + 2 modulo mod 4', ('mod', 'x')]
+>>> Weighting.read("a - b mod 4")
+raises InvalidText(0, 3)
+>>> [str(w) for w in (Weighting(a=1, b=2, c=-1), Weighting(a=-12), Weighting(30, a=1, b=-1), Weighting(2))]
+['a + 2 b - c', '- 12 a', 'a + 29 b mod 30', '0 mod 2']
+>>> Weighting.read("+ a")
+raises InvalidText(0, 0)
+>>> Weighting.read("0 a")
+raises InvalidText(0, 1)
+>>> [Weighting.read("a + mod").names, repr(Weighting(a=1, b=2))]
+[('a', 'mod'), 'Weighting(a + 2 b)']
+>>> Weighting.read("mod 4")
+raises InvalidText(0, 1)
+'''
+
+SPOILT = r'''
+>>> HEAD = ["door d j x", "station j g>q", "book one x>g:z", "book two x>g:w", "keeper n s>a", "book only u>s:o"]
+>>> TWO = Net.read("\n".join(HEAD + ["station q m>n t>b", "book one w>t:o z>m:u", "book two w>m:v,t:o z>t:o", "tally a o=1", "tally b o=1"]))
+>>> changes = [{"j": ("one", "two")}, {"q": ("one", "two")}, {"j": ("one", "two"), "q": ("one", "two")}]
+>>> [Weighting(a=1, b=1)(Course.of(TWO, "d", "x", choices).drift) for choices in changes]
+[0, 0, -1]
+'''
+
+MODULES = (books, courses, errors, houses, names, nets, pairs, parts, stations, stories, sumcheck, vectors, weightings)
 
 
 class TestExamples(unittest.TestCase):
@@ -120,3 +165,15 @@ class TestExamples(unittest.TestCase):
 
     def test_stories(self):
         self.run_lines(STORIES)
+
+    def test_courses(self):
+        self.run_lines(COURSES)
+
+    def test_pairs(self):
+        self.run_lines(PAIRS)
+
+    def test_weightings(self):
+        self.run_lines(WEIGHTINGS)
+
+    def test_sums(self):
+        self.run_lines(SPOILT)

@@ -33,6 +33,12 @@ INTERFACE = {
                          "open_item", "close", "move", "settle", "use", "restart", "most_open", "set_most_open", "do",
                          "trial", "tried", "twin", "__eq__")},
     "stories": {"played": None, "story_text": None, "read_story": None},
+    "courses": {"Course": ("__init__", "of", "choices", "pairs", "passed", "begin", "drift", "turned", "with_choice",
+                           "story", "__eq__")},
+    "pairs": {"pairs": None, "met": None, "endless": None, "shows_pairs": None},
+    "weightings": {"Weighting": ("__init__", "of", "names", "vector", "__call__", "__eq__", "__str__", "__repr__",
+                                 "read")},
+    "sumcheck": {"shows_clean": None, "shows_level": None},
 }
 
 STATEMENTS = (ast.Assign, ast.AugAssign, ast.If, ast.While, ast.For, ast.Return, ast.Break, ast.Continue, ast.Pass,
@@ -40,11 +46,12 @@ STATEMENTS = (ast.Assign, ast.AugAssign, ast.If, ast.While, ast.For, ast.Return,
 BUILTINS = {"len", "range", "enumerate", "zip", "min", "max", "sum", "abs", "sorted", "int", "str", "bool", "list",
             "tuple", "dict", "set", "isinstance", "repr", "any", "all", "ValueError", "TypeError", "IndexError",
             "LookupError", "OverflowError", "property", "staticmethod", "classmethod"}
-METHODS = {"append", "extend", "get", "items", "join", "partition", "pop", "split", "startswith", "update", "values",
-           "isalpha", "isascii", "isdigit", "islower", "removeprefix"}
+METHODS = {"append", "extend", "get", "index", "items", "join", "partition", "pop", "split", "startswith", "update",
+           "values", "isalpha", "isascii", "isdigit", "islower", "removeprefix"}
 OF_BUILTIN_VALUES = {name for value in ("", 0, [], {}, set(), (), b"") for name in dir(value)}
 DUNDERS = {"__init__", "__eq__", "__repr__", "__str__", "__len__", "__enter__", "__exit__", "__iter__", "__add__",
-           "__sub__", "__mul__", "__neg__", "__bool__", "__contains__", "__getitem__"}
+           "__sub__", "__mul__", "__neg__", "__or__", "__bool__", "__contains__", "__getitem__", "__call__"}
+CHANGERS = {"append", "extend", "pop", "update"}
 BARRED = {"register", "mro", "elements", "open", "input", "law", "version_info", "with_traceback", "add_note",
           "compile", "dir", "eval", "exec", "exit", "hash", "help", "id", "iter", "map", "next", "object", "round",
           "type", "vars", "filter", "format", "print", "super", "format_map"}
@@ -193,7 +200,9 @@ class TestModules(unittest.TestCase):
                     if isinstance(node, ast.Raise):
                         self.assertIsInstance(node.exc, ast.Call, place)
                         self.assertTrue(node.exc.func.id in CLASSES or node.exc.func.id == "TypeError", place)
-                self.assertFalse(function.returns or function.args.defaults or function.args.kw_defaults, name)
+                self.assertFalse(function.returns, name)
+                for default in function.args.defaults + function.args.kw_defaults:
+                    self.assertIsInstance(default, ast.Constant, (name, function.name))
                 for arg in function.args.args:
                     self.assertIsNone(arg.annotation, name)
 
@@ -249,6 +258,121 @@ class TestModules(unittest.TestCase):
                 elif isinstance(node, ast.Attribute):
                     told = own | METHODS | PROPERTIES | ATTRIBUTES | VALUES | {"setter"}
                     self.assertIn(node.attr, told, (name, node.lineno))
+
+
+    def test_stars(self):   # L7, L23
+        for name, tree in TREES.items():
+            for node in ast.walk(tree):
+                if isinstance(node, ast.Set):
+                    for part in node.elts:
+                        self.assertNotIsInstance(part, (ast.Starred, ast.Constant), (name, node.lineno))
+                if isinstance(node, ast.Starred) and isinstance(node.value, ast.Call):
+                    called = node.value.func
+                    called = called.id if isinstance(called, ast.Name) else called.attr
+                    self.assertNotIn(called, {"zip", "enumerate", "range", "items", "values"} | GENERATORS, name)
+                if isinstance(node, ast.Call):
+                    stars = [part.value for part in node.args if isinstance(part, ast.Starred)]
+                    stars += [part.value for part in node.keywords if part.arg is None]
+                    for part in stars:
+                        self.assertIsInstance(part, (ast.Name, ast.Attribute), (name, node.lineno))
+                        self.assertNotIn(getattr(part, "attr", None), PROPERTIES, (name, node.lineno))
+                    if any(part.arg is None for part in node.keywords):
+                        self.assertEqual(len(node.keywords), 1, (name, node.lineno))
+
+    def test_calls_of_generators(self):   # L23
+        for name, tree in TREES.items():
+            for node in ast.walk(tree):
+                if isinstance(node, ast.Call) and isinstance(node.func, ast.Attribute) and node.func.attr in GENERATORS:
+                    for part in node.args:
+                        self.assertIsInstance(part, (ast.Name, ast.Constant), (name, node.lineno))
+
+    def test_loops_do_not_change_what_they_go_over(self):   # L23
+        for name, tree in TREES.items():
+            for node in ast.walk(tree):
+                if isinstance(node, ast.For):
+                    told = {ast.unparse(part) for part in ast.walk(node.iter)
+                            if isinstance(part, (ast.Name, ast.Attribute, ast.Subscript))}
+                    if isinstance(node.iter, ast.Call) and getattr(node.iter.func, "id", "") in ("list", "sorted"):
+                        continue
+                    for part in [part for row in node.body for part in ast.walk(row)]:
+                        for changed in changed_by(part):
+                            self.assertNotIn(ast.unparse(changed), told, (name, part.lineno))
+
+
+def changed_by(node):
+    """What a statement or a call changes: the expressions of the lists and dicts, and of the objects."""
+    if isinstance(node, (ast.Assign, ast.AugAssign)):
+        targets = node.targets if isinstance(node, ast.Assign) else [node.target]
+        parts = [part for target in targets for part in ast.walk(target)]
+        return [part.value for part in parts if isinstance(part, (ast.Subscript, ast.Attribute))
+                and isinstance(part.ctx, ast.Store)]
+    if isinstance(node, ast.Call) and isinstance(node.func, ast.Attribute) and node.func.attr in CHANGERS:
+        return [node.func.value]
+    return []
+
+
+def is_new(value):
+    """Whether an expression surely gives a new list, dict or object."""
+    if isinstance(value, ast.Call) and isinstance(value.func, ast.Name):
+        return value.func.id in {"list", "dict", "set", "sorted", "cls"} or value.func.id in CLASSES
+    return isinstance(value, (ast.List, ast.Dict, ast.ListComp, ast.DictComp))
+
+
+class TestPurity(unittest.TestCase):
+    """What operators, properties and texts run changes nothing but what it created itself."""
+
+    def reached(self):
+        plain = {node.name: node for tree in TREES.values() for node in tree.body if isinstance(node, ast.FunctionDef)}
+        methods = {}
+        for node in CLASSES.values():
+            for method in methods_of(node):
+                if not any("setter" in text for text in decorators_of(method)):
+                    methods.setdefault(method.name, []).append(method)
+        starts = (DUNDERS - {"__init__", "__enter__", "__exit__", "__iter__", "__call__"}) | PROPERTIES
+        left, found = [node for name in starts for node in methods.get(name, [])], []
+        while left:
+            node = left.pop()
+            if node in found:
+                continue
+            found.append(node)
+            for part in ast.walk(node):
+                if isinstance(part, ast.Call) and isinstance(part.func, ast.Attribute):
+                    left += methods.get(part.func.attr, []) if part.func.attr not in METHODS else []
+                elif isinstance(part, ast.Call) and part.func.id in plain:
+                    left.append(plain[part.func.id])
+                elif isinstance(part, ast.Call) and part.func.id in {"cls", *CLASSES}:
+                    made = [name for name in CLASSES if part.func.id == name or (
+                        part.func.id == "cls" and node in methods_of(CLASSES[name]))]
+                    left += [method for name in made for method in methods_of(CLASSES[name])
+                             if method.name == "__init__"]
+        return found
+
+    def test_nothing_is_changed(self):   # L5, L28
+        found = self.reached()
+        self.assertGreater(len(found), 40)
+        for function in found:
+            values = {}
+            for node in ast.walk(function):
+                if isinstance(node, ast.Assign):
+                    for target in node.targets:
+                        for part in ast.walk(target):
+                            if isinstance(part, ast.Name) and isinstance(part.ctx, ast.Store):
+                                values.setdefault(part.id, []).append(node.value if part is target else None)
+                elif isinstance(node, (ast.For, ast.comprehension)):
+                    for part in ast.walk(node.target):
+                        if isinstance(part, ast.Name):
+                            values.setdefault(part.id, []).append(None)
+            for node in ast.walk(function):
+                self.assertNotIsInstance(node, (ast.Yield, ast.Delete), function.name)
+                if isinstance(node, ast.AugAssign):
+                    self.assertIsInstance(node.value, ast.Constant, function.name)
+                for changed in changed_by(node):
+                    if function.name == "__init__" and ast.unparse(changed) == "self":
+                        continue
+                    self.assertIsInstance(changed, ast.Name, (function.name, node.lineno))
+                    told = values.get(changed.id, [None])
+                    self.assertTrue(all(value is not None and is_new(value) for value in told),
+                                    (function.name, node.lineno, changed.id))
 
 
 class TestClasses(unittest.TestCase):

@@ -12,14 +12,16 @@ from evenends.errors import InvalidNet, InvalidText
 from evenends.nets import Net
 from evenends.stories import read_story, story_text
 from evenends.vectors import Vector
+from evenends.weightings import Weighting
 from tests.samples import FRAIL, PLAIN
 from tests.test_net_texts import ROOM
 
 LAST = "zzzzzzzz"
-REST_OF_LINE = ["", f" {LAST}", f" {LAST} {LAST}", f" {LAST} {LAST} {LAST}", f" {LAST} -", " -", " 0"]
+REST_OF_LINE = ["", f" {LAST}", f" {LAST} {LAST}", f" {LAST} {LAST} {LAST}", f" {LAST} -", " -", " 0", f" {10 ** 59}"]
 REST_OF_TEXT = ["", f"\nbook {LAST} -"]
 JUNK = ["", "a", "z", "0", "-", "A", "self", "a=1", "a=0", "b=-2", "a>b", "a>b:c", "k>g:u,h:o", "door", "tally", "book",
-        "station", "keeper", "frail", "open", "close", "settle", "move", "restart", "01", "-1", "1234567", "123456"]
+        "station", "keeper", "frail", "open", "close", "settle", "move", "restart", "01", "-1", "1234567", "123456",
+        "+", "mod", "2"]
 
 
 def reads(read, text):
@@ -113,6 +115,10 @@ class TestByForce(unittest.TestCase):
 
     def test_nets(self):
         self.many(Net.read, str, ["\n".join(ROOM), str(PLAIN), str(FRAIL), "tally a", ""], True, 3000)
+
+    def test_weightings(self):
+        texts = ["a + 2 b - c", "- 12 a + mod", "a + 29 b mod 30", "0 mod 2", "0", "mod mod 3", "2 a mod 123456789"]
+        self.many(Weighting.read, str, texts, False, 6000)
 
     def test_stories(self):
         story = "open d k\nsettle\nbook j two\nclose 0\nmove d\nrestart q\nsettle\nclose 123456"
