@@ -2,8 +2,8 @@
 
 import unittest
 
-from evenends import (books, courses, errors, houses, names, nets, pairs, parts, stations, stories, sumcheck, vectors,
-                      weightings)
+from evenends import (books, courses, drifts, errors, formcheck, forms, houses, lattices, names, nets, pairs, parts,
+                      stations, stories, sumcheck, sums, vectors, weightings)
 
 HEAD = r'''
 >>> LINES = ["door d j k", "station j g>q h>b", "book one k>g:u", "book two k>g:v,h:o"]
@@ -110,6 +110,15 @@ raises InvalidText(0, 1)
 raises InvalidText(0, 1)
 '''
 
+SUMS = '''
+>>> [clean(PLAIN, Weighting(a=1, b=1))[0], clean(KEPT, Weighting(a=1, b=1))[0], clean(KEPT, Weighting(a=1))[0]]
+['clean', 'drifts', 'clean']
+>>> clean(PLAIN, Weighting(a=1, b=1))[1][("s", "o", None)]
+1
+>>> [level(PLAIN, Weighting(a=1, b=1))[2][("d", "k")], level(KEPT, Weighting(a=1))[0], clean(KEPT.as_frail("q"), Weighting(a=1))[0]]
+[1, 'begins', 'drifts']
+'''
+
 SPOILT = r'''
 >>> HEAD = ["door d j x", "station j g>q", "book one x>g:z", "book two x>g:w", "keeper n s>a", "book only u>s:o"]
 >>> TWO = Net.read("\n".join(HEAD + ["station q m>n t>b", "book one w>t:o z>m:u", "book two w>m:v,t:o z>t:o", "tally a o=1", "tally b o=1"]))
@@ -118,7 +127,32 @@ SPOILT = r'''
 [0, 0, -1]
 '''
 
-MODULES = (books, courses, errors, houses, names, nets, pairs, parts, stations, stories, sumcheck, vectors, weightings)
+LATTICES = '''
+>>> lattice = Lattice(Vector(a=4, b=1), Vector(a=6))
+>>> [str(lattice), str(lattice.reduced(Vector(a=5, b=5))), lattice.numbers(Vector(a=4, b=1)), Vector(a=2) in lattice]
+['a=2 b=2 | b=3', 'a=1 b=1', (2, -1), False]
+>>> [str(Lattice(Vector(a=2, b=4)).across("a", "b", "c")), lattice.across("b") == Lattice.zero(), Lattice(Vector(b=9)).within(lattice)]
+['a=2 b=-1 | c=1', True, True]
+'''
+
+DRIFTS = '''
+>>> [str(drifts(PLAIN)), str(drifts(KEPT)), str(drifts(KEPT.as_frail("q"))), str(drifts(PLAIN.as_keeper("j"))), str(errors_of(KEPT))]
+['a=1 b=-1', 'b=1', 'a=1 | b=1', '0', 'a=1 | b=1']
+>>> [str(clean_sums(KEPT)), str(level_sums(PLAIN)), str(level_sums(KEPT)), made_of(PLAIN, Vector(a=1))]
+['a=1', 'a=1 b=1', '0', None]
+'''
+
+FORMS = '''
+>>> [[str(v) for v in form(net).residues[("d", "k")]] for net in (PLAIN, KEPT, KEPT.as_frail("q"))]
+[['b=1'], ['0', 'a=1'], ['0']]
+>>> [shows_form(KEPT, form(KEPT), form_paper(KEPT)), shows_form(PLAIN, form(KEPT), form_paper(KEPT))]
+[True, False]
+>>> form(KEPT) == form(KEPT.with_book("q", "more", Book(u={"s": "o"})))
+True
+'''
+
+MODULES = (books, courses, drifts, errors, formcheck, forms, houses, lattices, names, nets, pairs, parts, stations,
+           stories, sumcheck, sums, vectors, weightings)
 
 
 class TestExamples(unittest.TestCase):
@@ -176,4 +210,14 @@ class TestExamples(unittest.TestCase):
         self.run_lines(WEIGHTINGS)
 
     def test_sums(self):
+        self.run_lines(SUMS)
         self.run_lines(SPOILT)
+
+    def test_lattices(self):
+        self.run_lines(LATTICES)
+
+    def test_drifts(self):
+        self.run_lines(DRIFTS)
+
+    def test_forms(self):
+        self.run_lines(FORMS)

@@ -39,6 +39,12 @@ INTERFACE = {
     "weightings": {"Weighting": ("__init__", "of", "names", "vector", "__call__", "__eq__", "__str__", "__repr__",
                                  "read")},
     "sumcheck": {"shows_clean": None, "shows_level": None},
+    "sums": {"clean": None, "level": None},
+    "lattices": {"Lattice": ("__init__", "of", "zero", "basis", "rank", "names", "__bool__", "__contains__", "reduced",
+                             "numbers", "__or__", "within", "__eq__", "across", "__str__")},
+    "drifts": {"drifts": None, "errors_of": None, "made_of": None, "clean_sums": None, "level_sums": None},
+    "forms": {"form": None, "Form": ("residues", "__eq__"), "form_paper": None},
+    "formcheck": {"shows_form": None},
 }
 
 STATEMENTS = (ast.Assign, ast.AugAssign, ast.If, ast.While, ast.For, ast.Return, ast.Break, ast.Continue, ast.Pass,

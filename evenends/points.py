@@ -1,0 +1,53 @@
+"""Points: vectors as tuples of integers, for names that are told beside them."""
+
+from evenends.vectors import Vector
+
+
+def point_of(vector, names):
+    """The numbers of a vector at these names."""
+    return tuple([vector[name] for name in names])
+
+
+def vector_at(names, point):
+    """The vector that has these numbers at these names."""
+    return Vector.of(dict(zip(names, point)))
+
+
+def zero_point(width):
+    """The point of so many numbers 0."""
+    return (0,) * width
+
+
+def unit_point(width, place):
+    """The point of so many numbers, all of them 0 but a 1 at this place."""
+    return (0,) * place + (1,) + (0,) * (width - place - 1)
+
+
+def is_zero(point):
+    """Whether all numbers are 0."""
+    return not any(point)
+
+
+def plus(one, other):
+    """The sum of two points."""
+    return tuple([left + right for left, right in zip(one, other)])
+
+
+def minus(one, other):
+    """The difference of two points."""
+    return tuple([left - right for left, right in zip(one, other)])
+
+
+def multiple(point, times):
+    """So many times a point."""
+    return tuple([number * times for number in point])
+
+
+def with_times(one, other, times):
+    """One point and so many times the other one."""
+    return tuple([left + right * times for left, right in zip(one, other)])
+
+
+def size_of(point):
+    """The sum of the numbers without their signs."""
+    return sum([abs(number) for number in point])
