@@ -21,7 +21,7 @@ class Course:
     def of(cls, net, door, kind, choices):
         """The course with the choices of a dict."""
         check_course(net, door, kind, choices)
-        course = cls(net, door, kind)
+        course = Course(net, door, kind)
         # A station can be called net, door or kind, so the choices cannot be passed as keywords.
         course._choices = all_choices(net, choices)
         return course

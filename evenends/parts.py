@@ -36,7 +36,7 @@ class Tally:
     def of(cls, name, amounts):
         """The tally with the amounts of a dict."""
         check_tally(name, amounts)
-        tally = cls(name)
+        tally = Tally(name)
         # A kind can be called name, so the amounts cannot be passed as keywords.
         tally._amounts = kept_numbers(amounts)
         return tally

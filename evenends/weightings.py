@@ -19,7 +19,7 @@ class Weighting:
     def of(cls, numbers, modulo=0):
         """The weighting with the weights of a dict."""
         check_weights(modulo, numbers)
-        weighting = cls(modulo)
+        weighting = Weighting(modulo)
         # A tally can be called modulo, so the weights cannot be passed as keywords.
         weighting._weights = kept_weights(modulo, numbers)
         return weighting

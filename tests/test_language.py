@@ -320,7 +320,8 @@ def changed_by(node):
 def is_new(value):
     """Whether an expression surely gives a new list, dict or object."""
     if isinstance(value, ast.Call) and isinstance(value.func, ast.Name):
-        return value.func.id in {"list", "dict", "set", "sorted", "cls"} or value.func.id in CLASSES
+        # What cls(..) gives is not by its name an object of a certain class, so its attributes may not be assigned.
+        return value.func.id in {"list", "dict", "set", "sorted"} or value.func.id in CLASSES
     return isinstance(value, (ast.List, ast.Dict, ast.ListComp, ast.DictComp))
 
 
