@@ -46,18 +46,25 @@ def drift_courses(meetings):
     return courses
 
 
-def begin_differences(meetings):
-    """What begins add that differ at one station alone: a list of the differences from its first book."""
+def begin_courses(meetings):
+    """Differences of begins at one station alone that make all: a dict from each to a met pair and a book.
+
+    Less than by this book, something adds by the first one if courses go to this pair and have first books below.
+    """
     net = meetings.net
     scale = plain_scale(net)
     bases = {}
-    differences = []
-    for key in meetings.begins():
+    courses = {}
+    begins = meetings.begins()
+    for key in begins:
         tally = tally_behind(net, key[0])
         if tally is not None:
             bases[key] = scale.at_tally(tally, key[1], None)
             continue
-        totals = [scale.total([bases[other] for other in below]) for _, below in kinds_under(net, key)]
-        bases[key] = totals[0]
-        differences.extend([minus(total, totals[0]) for total in totals[1:]])
-    return differences
+        totals = [(book, scale.total([bases[other] for other in below])) for book, below in kinds_under(net, key)]
+        _, bases[key] = totals[0]
+        for book, total in totals:
+            difference = minus(total, bases[key])
+            if difference not in courses:
+                courses[difference] = (begins[key], book)
+    return courses

@@ -208,3 +208,13 @@ def layers_of(net, on_wires, choices):
 def is_course(net, value):
     """Whether any value is a course of a net that is equal to this one."""
     return isinstance(value, Course) and value.net == net
+
+
+def is_course_for(net, item, value):
+    """Whether any value is a course of a net that is equal to this one, for an item: a tuple (door, kind)."""
+    return is_course(net, value) and (value.door, value.kind) == item
+
+
+def are_alike(net, one, other):
+    """Whether any two values are courses of nets that are equal to this one, for one door and kind."""
+    return is_course(net, one) and is_course_for(net, (one.door, one.kind), other)

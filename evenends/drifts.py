@@ -1,10 +1,8 @@
 """Drifts: what closed items can leave in the tallies; errors, and the sums that are always right."""
 
-from evenends.bases import begin_differences
-from evenends.lattices import Lattice
+from evenends.faults import Faults
 from evenends.makers import Maker
 from evenends.meetings import Meetings
-from evenends.points import vector_at
 
 
 def drifts(net):
@@ -14,9 +12,7 @@ def drifts(net):
 
 def errors_of(net):
     """The lattice of the errors of a net."""
-    meetings = Meetings(net)
-    differences = [vector_at(net.tallies, point) for point in begin_differences(meetings)]
-    return Maker(meetings).all_drifts() | Lattice.of(differences)
+    return Faults(Meetings(net)).all_errors()
 
 
 def made_of(net, vector):

@@ -1,6 +1,6 @@
 """Certificates of forms are checked here; no history is run, and nothing is searched."""
 
-from evenends.courses import is_course
+from evenends.courses import is_course, is_course_for
 from evenends.forms import Form
 from evenends.names import is_integer
 from evenends.residues import MOST
@@ -19,10 +19,10 @@ def shows_form(net, form, paper):
         return False
     scale = scale_for(net, form.lattice, worths, begins)
     points = {key: points_on(scale, begins[key]) for key in begins}
-    if not are_worths(net, {key: scale.worth(worths[key]) for key in worths}, scale):
+    if not keep_rules(net, worths, points, scale):
         return False
-    return (are_begins(net, points, scale) and are_closed(net, form.lattice, closed)
-            and are_opened(net, form, opened) and are_told(form, points, scale))
+    return (are_closed(net, form.lattice, closed) and are_opened(net, form, opened)
+            and are_told(form, points, scale))
 
 
 def are_tables(net, worths, begins):
@@ -55,6 +55,13 @@ def points_on(scale, vectors):
     return {scale.worth(vector): True for vector in vectors}
 
 
+def keep_rules(net, worths, points, scale):
+    """Whether the worths of pairs, and the begins as points, keep to the rules on a scale."""
+    if not are_worths(net, {key: scale.worth(worths[key]) for key in worths}, scale):
+        return False
+    return are_begins(net, points, scale)
+
+
 def are_begins(net, points, scale):
     """Whether all begins of the kinds at the wires are told."""
     if not all([key in points for key in door_kinds(net)]):
@@ -75,13 +82,19 @@ def has_sums(points, key, below, scale):
     """Whether each sum of one point for each of the keys below is a point of a key."""
     if not all([other in points for other in below]):
         return False
-    sums = {scale.total([]): True}
-    for other in below:
-        sums = {scale.total([one, more]): True for one in sums for more in points[other]}
-        # Each further wire only moves these sums, so they would be too many at its end, too.
-        if len(sums) > MOST:
-            return False
-    return all([point in points[key] for point in sums])
+    sums = sums_of(scale, [points[other] for other in below], MOST)
+    return len(sums) <= MOST and all([point in points[key] for point in sums])
+
+
+def sums_of(scale, rows, most):
+    """A dict whose keys are the sums of one point of each row; not all of them, if there are more than most."""
+    sums = {scale.total([]): None}
+    for row in rows:
+        sums = scale.totals(list(sums), list(row), most)
+        # Each further row only moves these sums, so there would be too many at the end, too.
+        if len(sums) > most:
+            return sums
+    return sums
 
 
 def are_closed(net, lattice, closed):
@@ -93,19 +106,32 @@ def are_closed(net, lattice, closed):
 
 def adds_up_to(net, told, vector):
     """Whether any value is a tuple of tuples (times, course) that add up to a vector."""
-    if not isinstance(told, tuple) or not all([is_times_course(net, part) for part in told]):
-        return False
+    return are_times_courses(net, told) and sum_of_drifts(told) == vector
+
+
+def are_times_courses(net, value):
+    """Whether any value is a tuple of tuples (times, course)."""
+    return isinstance(value, tuple) and all([is_times_course(net, part) for part in value])
+
+
+def sum_of_drifts(closed):
+    """The sum of the products of times and drift of tuples (times, course)."""
     total = Vector.zero()
-    for times, course in told:
+    for times, course in closed:
         total = total + course.drift * times
-    return total == vector
+    return total
 
 
 def is_times_course(net, value):
     """Whether any value is a tuple of an integer from 1 on and a course of a net."""
     if not isinstance(value, tuple) or len(value) != 2:
         return False
-    return is_integer(value[0]) and value[0] >= 1 and is_course(net, value[1])
+    return is_times(value[0]) and is_course(net, value[1])
+
+
+def is_times(value):
+    """Whether any value is an integer from 1 on."""
+    return is_integer(value) and value >= 1
 
 
 def are_opened(net, form, opened):
@@ -121,7 +147,7 @@ def have_residues(net, form, key, value):
     residues = form.residues[key]
     if not isinstance(value, tuple) or len(value) != len(residues):
         return False
-    if not all([is_course(net, course) and (course.door, course.kind) == key for course in value]):
+    if not all([is_course_for(net, key, course) for course in value]):
         return False
     return all([form.lattice.reduced(course.begin) == residue for course, residue in zip(value, residues)])
 

@@ -32,10 +32,14 @@ class Maker:
             return None
         told = []
         for point, taken in zip(self._points, rest[width:]):
-            told.extend(self._courses_for(point, -taken))
+            told.extend(self.courses_for(point, -taken))
         return tuple(told)
 
-    def _courses_for(self, point, times):
+    def points_taken(self):
+        """A list of points that make all drifts, each the drift of a course."""
+        return list(self._points)
+
+    def courses_for(self, point, times):
         """A list of tuples (times, course) that add up to so many times one of the points."""
         if times == 0:
             return []

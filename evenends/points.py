@@ -48,6 +48,22 @@ def with_times(one, other, times):
     return tuple([left + right * times for left, right in zip(one, other)])
 
 
+def largest(points):
+    """The greatest number of points, without its sign; 0 if there are none."""
+    return max([abs(number) for point in points for number in point], default=0)
+
+
+def code_of(point, base):
+    """One integer that stands for a point; the codes of points with numbers below half of the base are different.
+
+    The code of a sum is the sum of the codes.
+    """
+    code = 0
+    for number in point:
+        code = code * base + number
+    return code
+
+
 def size_of(point):
     """The sum of the numbers without their signs."""
     return sum([abs(number) for number in point])

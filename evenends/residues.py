@@ -30,31 +30,26 @@ def residues_by(residues, steps, scale):
     for book, below in steps:
         sums = {scale.total([]): ()}
         for key in below:
-            sums = sums_with(sums, key, list(residues[key]), scale)
+            # The begin of another wire only moves these sums, so no door whose items come here has fewer residues.
+            sums = sums_with(sums, key, list(residues[key]), scale, MOST)
         for residue in sums:
             if residue not in told:
                 told[residue] = (book, sums[residue])
-        check_count(told)
+        check_count(told, MOST)
     return told
 
 
-def sums_with(sums, key, residues, scale):
+def sums_with(sums, key, residues, scale, most):
     """The sums of one of the sums before and one residue of a key, each with the residues of which it is made."""
-    told = {}
-    for before in sums:
-        for residue in residues:
-            total = scale.total([before, residue])
-            if total not in told:
-                told[total] = (*sums[before], (key, residue))
-        # The begin of another wire only moves these sums, so no door whose items come here has fewer residues.
-        check_count(told)
-    return told
+    told = scale.totals(list(sums), residues, most)
+    check_count(told, most)
+    return {total: (*sums[told[total][0]], (key, told[total][1])) for total in told}
 
 
-def check_count(residues):
-    """Checks that there are not too many residues."""
-    if len(residues) > MOST:
-        raise TooMany(MOST)
+def check_count(sums, most):
+    """Checks that there are not too many sums."""
+    if len(sums) > most:
+        raise TooMany(most)
 
 
 def course_with(net, residues, key, residue):

@@ -3,7 +3,7 @@
 On a scale worths that are the same are equal.
 """
 
-from evenends.points import multiple, plus, point_of, unit_point, zero_point
+from evenends.points import code_of, largest, multiple, plus, point_of, unit_point, zero_point
 from evenends.stairs import reduced_by
 
 
@@ -50,3 +50,28 @@ class TableScale:
         for worth in worths:
             point = plus(point, worth)
         return reduced_by(self._stairs, point)
+
+    def totals(self, ones, others, most):
+        """A dict from the sums of one worth of each of two lists to two such worths; not all, if more than most."""
+        told = {}
+        for one, other in unlike_sums(ones, others):
+            total = self.total([one, other])
+            if total not in told:
+                told[total] = (one, other)
+            if len(told) > most:
+                return told
+        return told
+
+
+def unlike_sums(ones, others):
+    """A list of tuples of one point of each of two lists, one tuple for each sum of them."""
+    # Most sums come again and again, and codes tell so with much less work than points.
+    base = 4 * (largest([*ones, *others]) + 1)
+    codes = [code_of(other, base) for other in others]
+    found = {}
+    for one in ones:
+        start = code_of(one, base)
+        for other, code in zip(others, codes):
+            if start + code not in found:
+                found[start + code] = (one, other)
+    return list(found.values())

@@ -1,6 +1,6 @@
 """Certificates of sums are checked here; no history is run, and nothing is searched."""
 
-from evenends.courses import is_course
+from evenends.courses import are_alike, is_course
 from evenends.names import is_integer
 from evenends.scales import SumScale
 from evenends.weightings import check_tallies
@@ -40,9 +40,7 @@ def shows_drift(net, weighting, thing):
 
 def shows_begins(net, weighting, one, other):
     """Whether any two values are courses of one door and kind whose begins have different sums."""
-    if not is_course(net, one) or not is_course(net, other):
-        return False
-    if one.door != other.door or one.kind != other.kind:
+    if not are_alike(net, one, other):
         return False
     return weighting(one.begin) != weighting(other.begin)
 

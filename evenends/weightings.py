@@ -74,8 +74,8 @@ def kept_weights(modulo, numbers):
     return kept_numbers({name: numbers[name] % modulo for name in numbers})
 
 
-def check_tallies(net, weighting):
-    """Checks that the names of a weighting are tallies of a net."""
-    unknown = [name for name in weighting.names if name not in net.tallies]
+def check_tallies(net, named):
+    """Checks that the names of a weighting or a vector are tallies of a net."""
+    unknown = [name for name in named.names if name not in net.tallies]
     if unknown:
         raise UnknownName(unknown[0])

@@ -6,8 +6,10 @@ from evenends.books import Book
 from evenends.houses import House
 from evenends.nets import Net
 from evenends.parts import Door, Tally
-from evenends.stations import Station
+from evenends.stations import Keeper, Station
 from evenends.vectors import Vector
+
+LETTERS = "abcdefghijklmnopqrstuvwxyz"
 
 LINES = ["door d j k", "station j g>q h>b", "book one k>g:u", "book two k>g:v,h:o"]
 PLAIN = Net.read("\n".join(LINES + ["station q s>a", "book only u>s:o", "tally a o=1", "tally b o=1"]))
@@ -18,11 +20,22 @@ TWO = Net.read("\n".join(HEAD + ["station q m>n t>b", "book one w>t:o z>m:u", "b
                                  "tally a o=1", "tally b o=1"]))
 
 
-
 def switch(amount, kind="k"):
     """A net in which one book of a station sends begins of k to a tally, and the other one nothing."""
     return Net(Door("d", "s", kind), Station("s", {"w": "t"}, ("x", Book(k={"w": "k"})), ("y", Book())),
                Tally("t", k=amount))
+
+
+def spread(**amounts):
+    """A net whose door has kinds with told lists of amounts that a begin can add to its one tally; nothing drifts."""
+    most = max(len(row) for row in amounts.values())
+    numbers = sorted({number for row in amounts.values() for number in row})
+    kinds = {number: "x" + LETTERS[at // 26] + LETTERS[at % 26] for at, number in enumerate(numbers)}
+    books = [("b" + LETTERS[at // 26] + LETTERS[at % 26],
+              Book.of({kind: {"w": kinds[row[min(at, len(row) - 1)]]} for kind, row in amounts.items()}))
+             for at in range(most)]
+    return Net(Door("d", "s", *amounts), Keeper("s", {"w": "t"}, *books),
+               Tally("t", **{kind: number for number, kind in kinds.items()}))
 
 
 # Values that are neither names nor integers, nor dicts, lists or tuples of use.

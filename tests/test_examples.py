@@ -2,8 +2,9 @@
 
 import unittest
 
-from evenends import (books, courses, drifts, errors, formcheck, forms, houses, lattices, names, nets, pairs, parts,
-                      stations, stories, sumcheck, sums, vectors, weightings)
+from evenends import (alike, books, courses, drifts, errors, explaincheck, explained, formcheck, forms, houses, lattices,
+                      names, nets, pairs, parts, recountcheck, recounts, stations, stories, sumcheck, sums, vectors,
+                      weightings)
 
 HEAD = r'''
 >>> LINES = ["door d j k", "station j g>q h>b", "book one k>g:u", "book two k>g:v,h:o"]
@@ -145,14 +146,31 @@ DRIFTS = '''
 FORMS = '''
 >>> [[str(v) for v in form(net).residues[("d", "k")]] for net in (PLAIN, KEPT, KEPT.as_frail("q"))]
 [['b=1'], ['0', 'a=1'], ['0']]
->>> [shows_form(KEPT, form(KEPT), form_paper(KEPT)), shows_form(PLAIN, form(KEPT), form_paper(KEPT))]
-[True, False]
->>> form(KEPT) == form(KEPT.with_book("q", "more", Book(u={"s": "o"})))
-True
+>>> [shows_form(KEPT, form(KEPT), form_paper(KEPT)), shows_form(PLAIN, form(KEPT), form_paper(KEPT)), alike(PLAIN, KEPT)[0]]
+[True, False, 'unlike']
+>>> alike(KEPT, KEPT.with_book("q", "more", Book(u={"s": "o"})))
+('alike',)
 '''
 
-MODULES = (books, courses, drifts, errors, formcheck, forms, houses, lattices, names, nets, pairs, parts, stations,
-           stories, sumcheck, sums, vectors, weightings)
+EXPLAINED = '''
+>>> [explained(KEPT, Vector(a=1, b=7), ("d", "k"))[0], explained(KEPT, Vector(a=2), ("d", "k"))[0], explained(PLAIN, Vector(a=1))[0]]
+['left', 'never', 'never']
+>>> told = explained(KEPT, Vector(a=1, b=2), ("d", "k"), ("d", "k"))
+>>> house = played(KEPT, history(KEPT, told[1], told[2]))
+>>> [str(house.tallies), list(house.open_items.values()), shows_explained(KEPT, Vector(a=1, b=2), [("d", "k")] * 2, told)]
+['a=1 b=2', [('d', 'k'), ('d', 'k')], True]
+'''
+
+RECOUNTS = '''
+>>> cheap = recount(PLAIN, {"a": 3, "b": 1})
+>>> [cheap.counted, cheap.cost, str(cheap.levels["a"][0]), str(cheap.right(Vector(a=5, b=-5), {"b": 0}))]
+[('b',), 1, 'a + b', '0']
+>>> [recount(KEPT, {"a": 3, "b": 1}).counted, shows_recount(PLAIN, {"a": 3, "b": 1}, (cheap.counted, cheap.levels, cheap.alone))]
+[('a', 'b'), True]
+'''
+
+MODULES = (alike, books, courses, drifts, errors, explaincheck, explained, formcheck, forms, houses, lattices, names, nets,
+           pairs, parts, recountcheck, recounts, stations, stories, sumcheck, sums, vectors, weightings)
 
 
 class TestExamples(unittest.TestCase):
@@ -221,3 +239,9 @@ class TestExamples(unittest.TestCase):
 
     def test_forms(self):
         self.run_lines(FORMS)
+
+    def test_explained(self):
+        self.run_lines(EXPLAINED)
+
+    def test_recounts(self):
+        self.run_lines(RECOUNTS)

@@ -45,7 +45,15 @@ INTERFACE = {
     "drifts": {"drifts": None, "errors_of": None, "made_of": None, "clean_sums": None, "level_sums": None},
     "forms": {"form": None, "Form": ("residues", "__eq__"), "form_paper": None},
     "formcheck": {"shows_form": None},
+    "alike": {"alike": None},
+    "explained": {"explained": None, "history": None},
+    "explaincheck": {"shows_explained": None},
+    "recountcheck": {"shows_recount": None},
+    "recounts": {"recount": None, "Recount": ("levels", "alone", "right")},
 }
+
+# What may be imported that the package does not define; it is only called, by its bare name, by position.
+LIBRARY = {"math": ["gcd"]}
 
 STATEMENTS = (ast.Assign, ast.AugAssign, ast.If, ast.While, ast.For, ast.Return, ast.Break, ast.Continue, ast.Pass,
               ast.Raise, ast.With, ast.Expr)
@@ -147,7 +155,9 @@ class TestModules(unittest.TestCase):
             needs[name] = []
             for node in ast.walk(tree):
                 self.assertNotIsInstance(node, ast.Import)
-                if isinstance(node, ast.ImportFrom):
+                if isinstance(node, ast.ImportFrom) and node.module in LIBRARY:
+                    self.assertEqual(([alias.name for alias in node.names], node.level), (LIBRARY[node.module], 0))
+                elif isinstance(node, ast.ImportFrom):
                     package, module = node.module.split(".")
                     self.assertEqual((package, node.level), ("evenends", 0))
                     defined = [part.name for part in TREES[module].body if hasattr(part, "name")]
@@ -160,6 +170,16 @@ class TestModules(unittest.TestCase):
             free = [name for name in needs if not set(needs[name]) & set(needs)]
             self.assertTrue(free, f"files import from each other: {sorted(needs)}")
             needs = {name: modules for name, modules in needs.items() if name not in free}
+
+    def test_library(self):   # L2
+        borrowed = [name for names in LIBRARY.values() for name in names]
+        for name, tree in TREES.items():
+            parents = {child: node for node in ast.walk(tree) for child in ast.iter_child_nodes(node)}
+            for node in ast.walk(tree):
+                if isinstance(node, ast.Name) and node.id in borrowed:
+                    call = parents[node]
+                    self.assertTrue(isinstance(call, ast.Call) and call.func is node and not call.keywords, name)
+                    self.assertFalse([part for part in call.args if isinstance(part, ast.Starred)], name)
 
     def test_imports_are_used(self):
         for name, tree in TREES.items():

@@ -3,16 +3,21 @@
 import random
 import time
 
+from evenends.alike import alike
 from evenends.books import Book
 from evenends.courses import Course
 from evenends.drifts import clean_sums, drifts, errors_of, level_sums, made_of
 from evenends.errors import TooMany
+from evenends.explaincheck import shows_explained
+from evenends.explained import explained
 from evenends.formcheck import shows_form
 from evenends.forms import form, form_paper
 from evenends.nets import Net
 from evenends.pairs import endless, met, pairs, shows_pairs
 from evenends.parts import Door, Tally
 from evenends.stations import Frail, Keeper, Station
+from evenends.recountcheck import shows_recount
+from evenends.recounts import recount
 from evenends.sumcheck import shows_clean, shows_level
 from evenends.sums import clean, level
 from evenends.vectors import Vector
@@ -138,3 +143,44 @@ class TestLongRows(Case):
                 self.assertIn(told.lattice.reduced(course.begin), told.residues[course.door, course.kind])
             shown += 1
         self.assertGreater(shown, 3)
+
+    def test_explained(self):
+        words = []
+        for net in NETS:
+            for many in (0, 1, 3, 12):
+                some = list(self.courses(net, many))
+                items = [(course.door, course.kind) for course in some]
+                table = sum([course.begin for course in some], Vector())
+                for course in self.courses(net, 3):
+                    table = table + course.drift * 10 ** 40
+                for more in (Vector(), Vector(tc=1)):
+                    try:
+                        told = explained(net, table + more, *items)
+                    except TooMany as error:
+                        words.append(error.limit)
+                        continue
+                    words.append(told[0])
+                    self.assertTrue(told[0] == "left" or more)
+                    self.assertIs(shows_explained(net, table + more, items, told), True)
+        self.assertEqual(set(words), {"left", "never", 100})
+
+    def test_alike(self):
+        for net in (NETS[0], NETS[4], NETS[5]):
+            self.assertEqual(alike(net, net.with_book("sa", "more", net["sa"].book("two"))), ("alike",))
+            other = net.without_book("sj", "two").without_book("sj", "three").without_book("sj", "four")
+            told = alike(net, other)
+            if told != ("alike",):
+                self.assertEqual(explained((net, other)[told[3]], told[2], *told[1])[0], "left")
+                self.assertEqual(explained((other, net)[told[3]], told[2], *told[1])[0], "never")
+
+    def test_recounts(self):
+        chance = random.Random(112)
+        for net in NETS:
+            costs = {name: chance.randint(0, 5) for name in net.tallies}
+            told = recount(net, costs)
+            self.assertIs(shows_recount(net, costs, (told.counted, told.levels, told.alone)), True)
+            some = list(self.courses(net, 5))
+            meant = sum([course.begin for course in some], Vector())
+            table = sum([course.drift for course in self.courses(net, 5)], meant)
+            counted = {name: meant[name] for name in told.counted}
+            self.assertEqual(told.right(table, counted), meant)
