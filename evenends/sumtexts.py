@@ -24,16 +24,16 @@ def weighting_text(weights, modulo):
     return " ".join(words)
 
 
-def read_sum(line):
-    """The weights and the modulus that a line tells."""
-    if line.word_at(0) == "0":
-        return {}, read_modulus(line, 1, {})
+def read_sum(line, start):
+    """The weights and the modulus that the words of a line tell from an index on."""
+    if line.word_at(start) == "0":
+        return {}, read_modulus(line, start + 1, {})
     weights = {}
     last = ""
     # Before the first term there is no sign, or the sign -.
-    at = 0 if line.words[0] == "-" else -1
-    while at < 0 or is_sign(line, at):
-        sign = 1 if at < 0 else SIGNS[line.words[at]]
+    at = start if line.words[start] == "-" else start - 1
+    while at < start or is_sign(line, at):
+        sign = 1 if at < start else SIGNS[line.words[at]]
         weight, last, at = read_term(line, at + 1, last)
         weights[last] = sign * weight
     return weights, read_modulus(line, at, weights)

@@ -84,6 +84,14 @@ def read_numbers(line, start, most):
     return numbers
 
 
+def read_vector(line, start):
+    """The numbers of the vector that the words of a line tell from an index on."""
+    if line.word_at(start) == "0":
+        line.end_at(start + 1)
+        return {}
+    return read_numbers(line, start, VECTOR_DIGITS)
+
+
 def numbers_text(numbers):
     """The words NAME=NUMBER of a dict, in its order."""
     return " ".join([f"{name}={numbers[name]}" for name in numbers])

@@ -2,7 +2,7 @@
 
 from evenends.errors import InvalidVector
 from evenends.names import gives_integers, kept_numbers
-from evenends.texts import VECTOR_DIGITS, line_of, numbers_text, read_numbers
+from evenends.texts import line_of, numbers_text, read_vector
 
 
 class Vector:
@@ -28,11 +28,7 @@ class Vector:
     @classmethod
     def read(cls, text):
         """The vector with this text."""
-        line = line_of(text)
-        if line.words[0] == "0":
-            line.end_at(1)
-            return cls()
-        numbers = read_numbers(line, 0, VECTOR_DIGITS)
+        numbers = read_vector(line_of(text), 0)
         return cls(**numbers)
 
     @property

@@ -27,7 +27,7 @@ class Weighting:
     @classmethod
     def read(cls, text):
         """The weighting with this text."""
-        weights, modulo = read_sum(line_of(text))
+        weights, modulo = read_sum(line_of(text), 0)
         return cls.of(weights, modulo)
 
     @property

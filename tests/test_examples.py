@@ -2,9 +2,9 @@
 
 import unittest
 
-from evenends import (alike, books, courses, drifts, errors, explaincheck, explained, formcheck, forms, houses, lattices,
-                      names, nets, pairs, parts, recountcheck, recounts, stations, stories, sumcheck, sums, vectors,
-                      weightings)
+from evenends import (alike, books, courses, desk, drifts, errors, explaincheck, explained, formcheck, forms, houses,
+                      lattices, names, nets, pairs, parts, plancheck, plans, recountcheck, recounts, reports, stations,
+                      stories, sumcheck, sums, vectors, weightings)
 
 HEAD = r'''
 >>> LINES = ["door d j k", "station j g>q h>b", "book one k>g:u", "book two k>g:v,h:o"]
@@ -169,8 +169,36 @@ RECOUNTS = '''
 [('a', 'b'), True]
 '''
 
-MODULES = (alike, books, courses, drifts, errors, explaincheck, explained, formcheck, forms, houses, lattices, names, nets,
-           pairs, parts, recountcheck, recounts, stations, stories, sumcheck, sums, vectors, weightings)
+MODULES = (alike, books, courses, desk, drifts, errors, explaincheck, explained, formcheck, forms, houses, lattices, names,
+           nets, pairs, parts, plancheck, plans, recountcheck, recounts, reports, stations, stories, sumcheck, sums, vectors,
+           weightings)
+
+PLANS = '''
+>>> told = plan(PLAIN, {"q": 5, "j": 9}, Weighting(a=1))
+>>> [told[:2], told[3][0][:2], plan(KEPT.as_station("q"), {"q": 5}, Weighting(a=1), Weighting(b=1))[0]]
+[('plan', ('q',)), ((), 0), 'none']
+>>> [plan(PLAIN, {"q": 5, "j": 9}, Weighting(a=1), Weighting(b=1))[1], shows_plan(PLAIN, {"q": 5, "j": 9}, [Weighting(a=1)], told)]
+[('j',), True]
+'''
+
+REPORTS = '''
+>>> report(PLAIN).split("|")
+['d        j          1\\ng        q          4\\nh        b          3\\ns        a          3\\ndrift a=1 b=-1']
+>>> sums_report(KEPT, Weighting(a=1), Weighting(modulo=2, a=1, b=1))
+'a                              clean\\na + b mod 2                    drifts'
+'''
+
+DESK = '''
+>>> desk = Desk()
+>>> [desk("net door d j k / station j g>a h>b / book one k>g:o / book two k>h:o / tally a o=1 / tally b o=1"), desk("open d k"), desk("settle")]
+['ok', '0', '2']
+>>> [desk("book j two"), desk("close 0"), desk("settle"), desk("table"), desk("drifts"), desk("sum a + b"), desk("could a=2 b=-2"), desk("could a=1")]
+['ok', 'ok', '2', 'a=1 b=-1', 'a=1 b=-1', 'level', 'left', 'never']
+>>> [desk("count a=3 b=1"), desk("undo"), desk("table"), desk("items"), desk("undo"), desk("items")]
+['b', 'ok', 'a=1', '-', 'ok', '0:d:k']
+>>> desk("move d x")
+raises UnknownCommand(2)
+'''
 
 
 class TestExamples(unittest.TestCase):
@@ -245,3 +273,12 @@ class TestExamples(unittest.TestCase):
 
     def test_recounts(self):
         self.run_lines(RECOUNTS)
+
+    def test_plans(self):
+        self.run_lines(PLANS)
+
+    def test_reports(self):
+        self.run_lines(REPORTS)
+
+    def test_desk(self):
+        self.run_lines(DESK)

@@ -49,6 +49,10 @@ INTERFACE = {
     "explained": {"explained": None, "history": None},
     "explaincheck": {"shows_explained": None},
     "recountcheck": {"shows_recount": None},
+    "plans": {"plan": None},
+    "plancheck": {"shows_plan": None},
+    "reports": {"report": None, "sums_report": None},
+    "desk": {"Desk": ("__init__", "say", "__call__", "house", "undo")},
     "recounts": {"recount": None, "Recount": ("levels", "alone", "right")},
 }
 
@@ -56,12 +60,12 @@ INTERFACE = {
 LIBRARY = {"math": ["gcd"]}
 
 STATEMENTS = (ast.Assign, ast.AugAssign, ast.If, ast.While, ast.For, ast.Return, ast.Break, ast.Continue, ast.Pass,
-              ast.Raise, ast.With, ast.Expr)
+              ast.Raise, ast.With, ast.Try, ast.Expr)
 BUILTINS = {"len", "range", "enumerate", "zip", "min", "max", "sum", "abs", "sorted", "int", "str", "bool", "list",
             "tuple", "dict", "set", "isinstance", "repr", "any", "all", "ValueError", "TypeError", "IndexError",
             "LookupError", "OverflowError", "property", "staticmethod", "classmethod"}
 METHODS = {"append", "extend", "get", "index", "items", "join", "partition", "pop", "split", "startswith", "update",
-           "values", "isalpha", "isascii", "isdigit", "islower", "removeprefix"}
+           "values", "isalpha", "isascii", "isdigit", "islower", "removeprefix", "replace"}
 OF_BUILTIN_VALUES = {name for value in ("", 0, [], {}, set(), (), b"") for name in dir(value)}
 DUNDERS = {"__init__", "__eq__", "__repr__", "__str__", "__len__", "__enter__", "__exit__", "__iter__", "__add__",
            "__sub__", "__mul__", "__neg__", "__or__", "__bool__", "__contains__", "__getitem__", "__call__"}
@@ -232,6 +236,18 @@ class TestModules(unittest.TestCase):
                 for arg in function.args.args:
                     self.assertIsNone(arg.annotation, name)
 
+    def test_errors_that_are_caught(self):   # L19
+        for name, tree in TREES.items():
+            for node in ast.walk(tree):
+                if isinstance(node, ast.Try):
+                    self.assertEqual((node.finalbody, node.orelse, len(node.handlers)), ([], [], 1), name)
+                    self.assertIn(node.handlers[0].type.id, INTERFACE["errors"])
+                    # The handler only reads an attribute of the error, and raises another one.
+                    only, = node.handlers[0].body
+                    self.assertIsInstance(only, ast.Raise)
+                    self.assertIsNone(only.cause.value)
+                    self.assertIsInstance(only.exc.args[0], ast.Attribute)
+
     def test_names(self):   # L8, L12, L17
         for name, tree in TREES.items():
             bound = {alias.name for node in tree.body if isinstance(node, ast.ImportFrom) for alias in node.names}
@@ -240,6 +256,7 @@ class TestModules(unittest.TestCase):
             stored = {node.id for node in ast.walk(tree) if isinstance(node, ast.Name)
                       and isinstance(node.ctx, ast.Store)} | {node.arg for node in ast.walk(tree)
                                                               if isinstance(node, ast.arg)}
+            stored |= {node.name for node in ast.walk(tree) if isinstance(node, ast.ExceptHandler)}
             for node in ast.walk(tree):
                 if isinstance(node, ast.Name) and isinstance(node.ctx, ast.Load):
                     self.assertNotEqual(node.id, "_", name)
@@ -443,7 +460,7 @@ class TestClasses(unittest.TestCase):
                         parent = parents[parent]
                     is_test = isinstance(parent, ast.Call) and getattr(parent.func, "id", "") == "isinstance"
                     is_call = isinstance(parent, ast.Call) and parent.func is node
-                    self.assertTrue(is_test or is_call or isinstance(parent, (ast.ClassDef, ast.Attribute)),
+                    self.assertTrue(is_test or is_call or isinstance(parent, (ast.ClassDef, ast.Attribute, ast.ExceptHandler)),
                                     (name, node.lineno))
 
     def test_double_underscore_methods(self):   # L5, L28

@@ -6,6 +6,7 @@ import time
 from evenends.alike import alike
 from evenends.books import Book
 from evenends.courses import Course
+from evenends.desk import Desk
 from evenends.drifts import clean_sums, drifts, errors_of, level_sums, made_of
 from evenends.errors import TooMany
 from evenends.explaincheck import shows_explained
@@ -15,7 +16,10 @@ from evenends.forms import form, form_paper
 from evenends.nets import Net
 from evenends.pairs import endless, met, pairs, shows_pairs
 from evenends.parts import Door, Tally
+from evenends.reports import report, sums_report
 from evenends.stations import Frail, Keeper, Station
+from evenends.plancheck import shows_plan
+from evenends.plans import plan
 from evenends.recountcheck import shows_recount
 from evenends.recounts import recount
 from evenends.sumcheck import shows_clean, shows_level
@@ -184,3 +188,61 @@ class TestLongRows(Case):
             table = sum([course.drift for course in self.courses(net, 5)], meant)
             counted = {name: meant[name] for name in told.counted}
             self.assertEqual(told.right(table, counted), meant)
+
+    def test_reports(self):
+        for net in (NETS[0], NETS[3], NETS[5]):
+            told = {wire: len(row) for wire, row in pairs(net).items()}
+            lines = [f"{wire:8} {net.goal(wire):8} {told[wire]:3}" for wire in net.wires]
+            lines += [f"drift {vector}" for vector in drifts(net).basis]
+            self.assertEqual(report(net), "\n".join(lines))
+            weightings = [Weighting(ta=1), Weighting(3, tb=1, tc=1), Weighting()]
+            words = [line.split(" ")[-1] for line in sums_report(net, *weightings).split("\n")]
+            self.assertEqual(words[2], "level")
+            self.assertEqual([word == "drifts" for word in words],
+                             [clean(net, weighting)[0] == "drifts" for weighting in weightings])
+
+    def test_desk(self):
+        chance = random.Random(113)
+        for net in (NETS[1], NETS[5]):
+            desk = Desk()
+            self.assertEqual(desk("net " + str(net).replace("\n", " / ")), "ok")
+            for _ in range(12):
+                name = chance.choice(net.stations)
+                desk(f"book {name} {chance.choice(net[name].books)}")
+                desk(f"open {chance.choice(net.doors)} {chance.choice(KINDS)}")
+                desk("settle")
+            self.assertEqual(desk("could " + desk("table")), "left")
+            for number in range(12):
+                desk(f"close {number}")
+            desk("settle")
+            self.assertEqual(desk("could " + desk("table")), "left")
+            self.assertEqual(desk("drifts"), str(drifts(net)))
+            self.assertEqual(desk("count " + " ".join(f"{name}=1" for name in net.tallies)),
+                             " ".join(recount(net, dict.fromkeys(net.tallies, 1)).counted))
+            self.assertIsNone(desk.undo(49))
+            self.assertEqual(desk("show").count(" / "), str(net).count("\n"))
+
+    def test_plans(self):
+        words = set()
+        for seed in range(3):
+            chance = random.Random(seed)
+            net = NETS[seed % 2]
+            small = Net(*[net[name] for name in net.doors + net.tallies], *[shorter(net[name]) for name in net.stations[:8]])
+            costs = {name: chance.randint(0, 9) for name in small.stations[:6]}
+            for weightings in ([Weighting(ta=1), Weighting(tb=1), Weighting(tc=1)], [Weighting(2, ta=1), Weighting(), Weighting(3)],
+                               [Weighting(), Weighting(5), Weighting(7, tb=1)]):
+                told = plan(small, costs, *weightings)
+                words.add((told[0], len(told[-1]) > 0))
+                self.assertIs(shows_plan(small, costs, weightings, told), True)
+        self.assertIn(("none", True), words)
+
+
+def shorter(station):
+    """The station without its last book, and without a wire to the stations that are left out."""
+    wires = {wire: goal for wire, goal in station.wires.items() if goal != "si"}
+    books = []
+    for title in station.books[:3]:
+        book = station.book(title)
+        books.append((title, Book.of({kind: {wire: below for wire, below in book.row(kind).items() if wire in wires}
+                                      for kind in book.kinds})))
+    return Station(station.name, wires, *books)
