@@ -1,70 +1,65 @@
-"""What pairs and begins leave in the tallies, as points at all tallies of a net, and which drifts courses have."""
+"""What pairs and begins leave in the tallies of a net, as codes, and which drifts courses have."""
 
-from evenends.lattices import Lattice
-from evenends.points import minus, plus
-from evenends.scales import TableScale
-from evenends.wirekeys import kinds_under, tally_behind
+from evenends.codes import CodeScale
+from evenends.totals import Totals
 
 
-def plain_scale(net):
-    """The scale on which only equal vectors are the same."""
-    return TableScale(Lattice.zero(), net.tallies)
-
-
-def pair_bases(meetings, scale):
+class Bases:
     """What each met pair leaves, if every station below has its first book twice and forgets nothing."""
-    bases = {}
-    for key in meetings.upwards():
-        tally = tally_behind(meetings.net, key[0])
-        if tally is None:
-            _, below = meetings.under[key][0]
-            bases[key] = scale.total([bases[other] for other in below])
-        else:
-            bases[key] = scale.at_tally(tally, key[1], key[2])
-    return bases
 
+    def __init__(self, meetings):
+        self._meetings = meetings
+        self._scale = CodeScale(meetings.net)
+        self._codes = {}
+        self._totals = Totals(meetings.forks, self._scale, self._codes)
+        for key in meetings.upwards():
+            tally = meetings.forks.ends[key[0]]
+            if tally is None:
+                _, number = meetings.under[key][0]
+                self._codes[key] = self._totals.at(number)
+            else:
+                self._codes[key] = self._scale.at_tally(tally, key[1], key[2])
 
-def drift_courses(meetings):
-    """Drifts of courses that make all drifts: a dict from each to a met pair and a choice that tell a course.
+    def reduced_by_key(self, scale):
+        """A dict from the met pairs to their bases on the scale of a lattice."""
+        points = {code: scale.shortened(self._scale.point(code)) for code in self._codes.values()}
+        return {key: points[self._codes[key]] for key in self._codes}
 
-    The course goes to this pair, makes this choice at the station to which its wire leads, and has first books below.
-    """
-    scale = plain_scale(meetings.net)
-    bases = pair_bases(meetings, scale)
-    drifts_by = {}
-    courses = {}
-    for key in meetings.links:
-        # The course to the pair is the one that the key above and the choice there tell.
-        link = meetings.links[key]
-        drift = scale.total([]) if link is None else drifts_by[link]
-        above = minus(drift, bases[key])
-        for choice, below in meetings.under[key]:
-            drift = plus(above, scale.total([bases[other] for other in below]))
-            drifts_by[(key, choice)] = drift
-            if drift not in courses:
-                courses[drift] = (key, choice)
-    return courses
+    def drift_courses(self):
+        """Drifts of courses that make all drifts: a dict from each to a met pair and a choice that tell a course.
 
+        The course goes to this pair, makes this choice at the station behind it, and has first books below.
+        """
+        aboves = {}
+        courses = {}
+        for key in self._meetings.links:
+            # The course to the pair is the one that the key above and the choice there tell.
+            link = self._meetings.links[key]
+            drift = 0 if link is None else aboves[link[0]] + self._totals.at(link[2])
+            aboves[key] = drift - self._codes[key]
+            for choice, number in self._meetings.under[key]:
+                drift = aboves[key] + self._totals.at(number)
+                if drift not in courses:
+                    courses[drift] = (key, choice)
+        return {self._scale.point(drift): courses[drift] for drift in courses}
 
-def begin_courses(meetings):
-    """Differences of begins at one station alone that make all: a dict from each to a met pair and a book.
+    def begin_courses(self):
+        """Differences of begins at one station alone that make all: a dict from each to a met pair and a book.
 
-    Less than by this book, something adds by the first one if courses go to this pair and have first books below.
-    """
-    net = meetings.net
-    scale = plain_scale(net)
-    bases = {}
-    courses = {}
-    begins = meetings.begins()
-    for key in begins:
-        tally = tally_behind(net, key[0])
-        if tally is not None:
-            bases[key] = scale.at_tally(tally, key[1], None)
-            continue
-        totals = [(book, scale.total([bases[other] for other in below])) for book, below in kinds_under(net, key)]
-        _, bases[key] = totals[0]
-        for book, total in totals:
-            difference = minus(total, bases[key])
-            if difference not in courses:
-                courses[difference] = (begins[key], book)
-    return courses
+        Less than by this book, something adds by the first one if courses go to this pair and have first books below.
+        """
+        forks = self._meetings.forks
+        begins = self._meetings.begins()
+        codes = {}
+        courses = {}
+        for key in begins:
+            tally = forks.ends[key[0]]
+            if tally is not None:
+                codes[key] = self._scale.at_tally(tally, key[1], None)
+                continue
+            totals = [(book, sum([codes[other] for other in below])) for book, below in forks.rows_for(key)]
+            _, codes[key] = totals[0]
+            for book, total in totals:
+                if total - codes[key] not in courses:
+                    courses[total - codes[key]] = (begins[key], book)
+        return {self._scale.point(code): courses[code] for code in courses}

@@ -1,6 +1,5 @@
 """How errors are made of the drifts of courses and of the differences of their begins."""
 
-from evenends.bases import begin_courses
 from evenends.lattices import Lattice
 from evenends.makers import Maker, enough_of
 from evenends.points import unit_point, vector_at
@@ -14,7 +13,7 @@ class Faults:
         self._meetings = meetings
         self._places = meetings.net.tallies
         self._maker = Maker(meetings)
-        self._begins = begin_courses(meetings)
+        self._begins = self._maker.bases.begin_courses()
         self._points = enough_of([*self._maker.points_taken(), *self._begins])
 
     def all_errors(self):

@@ -1,12 +1,13 @@
 """Certificates of forms are checked here; no history is run, and nothing is searched."""
 
 from evenends.courses import is_course, is_course_for
+from evenends.forks import Forks
 from evenends.forms import Form
 from evenends.names import is_integer
 from evenends.residues import MOST
 from evenends.scales import TableScale
 from evenends.vectors import Vector
-from evenends.wirekeys import door_kinds, is_kind_key, is_pair_key, kinds_under, tally_behind
+from evenends.wirekeys import door_kinds, is_kind_key, is_pair_key
 from evenends.worthcheck import are_worths
 
 
@@ -57,25 +58,25 @@ def points_on(scale, vectors):
 
 def keep_rules(net, worths, points, scale):
     """Whether the worths of pairs, and the begins as points, keep to the rules on a scale."""
-    if not are_worths(net, {key: scale.worth(worths[key]) for key in worths}, scale):
+    forks = Forks(net)
+    if not are_worths(forks, {key: scale.worth(worths[key]) for key in worths}, scale):
         return False
-    return are_begins(net, points, scale)
+    return are_begins(forks, points, scale)
 
 
-def are_begins(net, points, scale):
+def are_begins(forks, points, scale):
     """Whether all begins of the kinds at the wires are told."""
-    if not all([key in points for key in door_kinds(net)]):
+    if not all([key in points for key in door_kinds(forks.net)]):
         return False
-    return all([has_begins(net, points, key, scale) for key in points])
+    return all([has_begins(forks, points, key, scale) for key in points])
 
 
-def has_begins(net, points, key, scale):
+def has_begins(forks, points, key, scale):
     """Whether the begins of a kind at a wire are told, if those behind the wire are."""
     wire, kind = key
-    tally = tally_behind(net, wire)
-    if tally is None:
-        return all([has_sums(points, key, below, scale) for _, below in kinds_under(net, key)])
-    return scale.at_tally(tally, kind, None) in points[key]
+    if forks.ends[wire] is not None:
+        return scale.at_tally(forks.ends[wire], kind, None) in points[key]
+    return all([has_sums(points, key, below, scale) for _, below in forks.rows_for(key)])
 
 
 def has_sums(points, key, below, scale):

@@ -1,6 +1,6 @@
 """How vectors are made of the drifts of courses."""
 
-from evenends.bases import drift_courses
+from evenends.bases import Bases
 from evenends.lattices import Lattice
 from evenends.points import is_zero, point_of, size_of, unit_point, vector_at, zero_point
 from evenends.stairs import reduced_by, stairs_of, with_point
@@ -12,7 +12,8 @@ class Maker:
     def __init__(self, meetings):
         self._meetings = meetings
         self._places = meetings.net.tallies
-        self._courses = drift_courses(meetings)
+        self.bases = Bases(meetings)
+        self._courses = self.bases.drift_courses()
         self._points = enough_of(list(self._courses))
         # Behind the numbers at the tallies stands how often each of the points was taken.
         self._counted = stairs_of([(*point, *unit_point(len(self._points), at))

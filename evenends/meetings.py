@@ -1,7 +1,8 @@
 """Which pairs are met at the wires of a net, and by which courses."""
 
 from evenends.courses import Course
-from evenends.wirekeys import door_pairs, pairs_under, tally_behind
+from evenends.forks import Forks
+from evenends.wirekeys import door_pairs, tally_behind
 
 
 class Meetings:
@@ -9,11 +10,11 @@ class Meetings:
 
     def __init__(self, net):
         self.net = net
-        # For each key: None at a door, otherwise the key above it and the choice there whose outcome has it.
-        # Each key stands behind the one above it.
+        self.forks = Forks(net)
+        # For each key: None at a door, otherwise the key above it, the choice there whose outcome has it, and the
+        # number of this outcome. Each key stands behind the one above it.
         self.links = {key: None for key in door_pairs(net)}
-        # For each key: the choices at the goal of its wire, each with the keys of its outcome. The choice of the
-        # first book twice and no forgetting stands first. There are none at tallies.
+        # For each key: the outcomes at the goal of its wire, each with its first choice. There are none at tallies.
         self.under = {}
         self._search()
 
@@ -34,7 +35,7 @@ class Meetings:
         choices = {}
         place = key
         while self.links[place] is not None:
-            place, choice = self.links[place]
+            place, choice, _ = self.links[place]
             choices[self.net.goal(place[0])] = choice
         return Course.of(self.net, place[0], place[1], choices)
 
@@ -44,15 +45,17 @@ class Meetings:
 
     def _search(self):
         left = list(self.links)
+        seen = {}
         while left:
             key = left.pop()
-            steps = pairs_under(self.net, key) if tally_behind(self.net, key[0]) is None else []
+            steps = self.forks.steps(key)
             self.under[key] = steps
-            for choice, below in steps:
-                for other in below:
-                    if other not in self.links:
-                        self.links[other] = (key, choice)
-                        left.append(other)
+            for choice, number in steps:
+                if number not in seen:
+                    seen[number] = True
+                    new = [other for other in self.forks.keys_of(number) if other not in self.links]
+                    self.links.update({other: (key, choice, number) for other in new})
+                    left.extend(new)
 
 
 def heights_of(net):

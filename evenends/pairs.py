@@ -1,9 +1,10 @@
 """Pairs: which of them are met at the wires of a net."""
 
 from evenends.errors import UnknownName
+from evenends.forks import Forks
 from evenends.meetings import Meetings
 from evenends.stations import Keeper
-from evenends.wirekeys import door_pairs, is_pair, pairs_under, place_of, tally_behind
+from evenends.wirekeys import door_pairs, is_pair, place_of
 
 
 def pairs(net):
@@ -45,11 +46,11 @@ def shows_pairs(net, thing):
     if not all([wire in thing and are_pairs_in_order(thing[wire]) for wire in net.wires]):
         return False
     told = {(wire, *pair): True for wire in thing for pair in thing[wire]}
-    needed = door_pairs(net)
-    for key in told:
-        if tally_behind(net, key[0]) is None:
-            needed.extend([other for _, below in pairs_under(net, key) for other in below])
-    return all([key in told for key in needed])
+    forks = Forks(net)
+    numbers = {number: True for key in told for _, number in forks.steps(key)}
+    if not all([key in told for key in door_pairs(net)]):
+        return False
+    return all([key in told for number in numbers for key in forks.keys_of(number)])
 
 
 def are_pairs_in_order(value):

@@ -10,7 +10,8 @@ def point_of(vector, names):
 
 def vector_at(names, point):
     """The vector that has these numbers at these names."""
-    return Vector.of(dict(zip(names, point)))
+    numbers = dict(zip(names, point))
+    return Vector(**numbers)
 
 
 def zero_point(width):

@@ -2,7 +2,6 @@
 
 from evenends.courses import Course
 from evenends.errors import TooMany
-from evenends.wirekeys import kinds_under, tally_behind
 
 MOST = 100
 
@@ -12,12 +11,12 @@ def all_residues(meetings, scale):
 
     For a wire into a station, how is a tuple of a book and of one key and residue for each wire of the row.
     """
-    net = meetings.net
+    forks = meetings.forks
     residues = {}
     for key in meetings.begins():
-        tally = tally_behind(net, key[0])
+        tally = forks.ends[key[0]]
         if tally is None:
-            told = residues_by(residues, kinds_under(net, key), scale)
+            told = residues_by(residues, forks.rows_for(key), scale)
             residues[key] = {residue: told[residue] for residue in sorted(told)}
         else:
             residues[key] = {scale.at_tally(tally, key[1], None): None}

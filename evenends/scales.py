@@ -36,7 +36,11 @@ class TableScale:
 
     def worth(self, vector):
         """The worth that a vector tells."""
-        return reduced_by(self._stairs, point_of(vector, self._places))
+        return self.shortened(point_of(vector, self._places))
+
+    def shortened(self, point):
+        """The worth that the numbers of a vector at all names tell."""
+        return reduced_by(self._stairs, point)
 
     def at_tally(self, tally, begin, end):
         """The worth of a pair at a wire that leads to a tally."""
@@ -65,6 +69,8 @@ class TableScale:
 
 def unlike_sums(ones, others):
     """A list of tuples of one point of each of two lists, one tuple for each sum of them."""
+    if len(ones) == 1 or len(others) == 1:
+        return [(one, other) for one in ones for other in others]
     # Most sums come again and again, and codes tell so with much less work than points.
     base = 4 * (largest([*ones, *others]) + 1)
     codes = [code_of(other, base) for other in others]

@@ -1,6 +1,5 @@
 """What the form of a net is made of."""
 
-from evenends.bases import pair_bases
 from evenends.makers import Maker
 from evenends.meetings import Meetings
 from evenends.points import vector_at
@@ -40,8 +39,10 @@ class Shape:
 
     def worths(self):
         """A dict from the met pairs to their bases, reduced by the drifts."""
-        bases = pair_bases(self._meetings, self.scale)
-        return {key: vector_at(self.net.tallies, bases[key]) for key in bases}
+        points = self.maker.bases.reduced_by_key(self.scale)
+        # Many pairs have one base, and vectors never change.
+        vectors = {point: vector_at(self.net.tallies, point) for point in points.values()}
+        return {key: vectors[points[key]] for key in points}
 
     def begins_told(self):
         """A dict from the wires and kinds with which a begin comes to the tuples of the residues."""

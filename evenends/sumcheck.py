@@ -1,6 +1,7 @@
 """Certificates of sums are checked here; no history is run, and nothing is searched."""
 
 from evenends.courses import are_alike, is_course
+from evenends.forks import Forks
 from evenends.names import is_integer
 from evenends.scales import SumScale
 from evenends.weightings import check_tallies
@@ -52,7 +53,7 @@ def shows_worths(net, weighting, thing):
     if not all([is_pair_key(net, key) and is_integer(thing[key]) for key in thing]):
         return False
     scale = SumScale(weighting)
-    return are_worths(net, {key: scale.worth(thing[key]) for key in thing}, scale)
+    return are_worths(Forks(net), {key: scale.worth(thing[key]) for key in thing}, scale)
 
 
 def shows_numbers(net, weighting, thing):
@@ -62,4 +63,4 @@ def shows_numbers(net, weighting, thing):
     if not all([is_kind_key(net, key) and is_integer(thing[key]) for key in thing]):
         return False
     scale = SumScale(weighting)
-    return are_numbers(net, {key: scale.worth(thing[key]) for key in thing}, scale)
+    return are_numbers(Forks(net), {key: scale.worth(thing[key]) for key in thing}, scale)

@@ -2,8 +2,8 @@
 
 from evenends.meetings import Meetings
 from evenends.scales import SumScale
+from evenends.totals import Totals
 from evenends.weightings import check_tallies
-from evenends.wirekeys import kinds_under, tally_behind
 
 
 def clean(net, weighting):
@@ -26,12 +26,13 @@ def cleaned(meetings, weighting):
     """What clean tells of a weighting whose names are tallies."""
     scale = SumScale(weighting)
     worths = {}
+    totals = Totals(meetings.forks, scale, worths)
     for key in meetings.upwards():
-        tally = tally_behind(meetings.net, key[0])
+        tally = meetings.forks.ends[key[0]]
         if tally is not None:
             worths[key] = scale.at_tally(tally, key[1], key[2])
             continue
-        steps = [(choice, scale.total([worths[other] for other in below])) for choice, below in meetings.under[key]]
+        steps = [(choice, totals.at(number)) for choice, number in meetings.under[key]]
         choices = two_ways(steps)
         if choices is not None:
             return "drifts", drifting(weighting, [meetings.course_by(key, choice) for choice in choices])
@@ -41,16 +42,16 @@ def cleaned(meetings, weighting):
 
 def levelled(meetings, weighting, worths):
     """What level tells of a weighting that has these worths."""
-    net = meetings.net
+    forks = meetings.forks
     scale = SumScale(weighting)
     numbers = {}
     begins = meetings.begins()
     for key in begins:
-        tally = tally_behind(net, key[0])
+        tally = forks.ends[key[0]]
         if tally is not None:
             numbers[key] = scale.at_tally(tally, key[1], None)
             continue
-        steps = [(book, scale.total([numbers[other] for other in below])) for book, below in kinds_under(net, key)]
+        steps = [(book, scale.total([numbers[other] for other in below])) for book, below in forks.rows_for(key)]
         books = two_ways(steps)
         if books is not None:
             first, second = [meetings.course_by(begins[key], (book, book)) for book in books]

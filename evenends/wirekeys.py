@@ -47,18 +47,3 @@ def tally_behind(net, wire):
     """The tally to which a wire leads; None if it leads to a station."""
     goal = net[net.goal(wire)]
     return goal if isinstance(goal, Tally) else None
-
-
-def pairs_under(net, key):
-    """For each choice at the station to which the wire of a key leads: the choice and the pairs of the outcome."""
-    wire, begin, end = key
-    station = net[net.goal(wire)]
-    return [((first, second, forgets), [(other, *outcome[other]) for other in outcome])
-            for first, second, forgets, outcome in station.outcomes(begin, end)]
-
-
-def kinds_under(net, key):
-    """For each book of the station to which the wire of a key leads: the book and the kinds of the row."""
-    wire, kind = key
-    station = net[net.goal(wire)]
-    return [(name, list(station.book(name).row(kind).items())) for name in station.books]

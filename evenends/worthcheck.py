@@ -1,46 +1,42 @@
-"""By which rules worths and numbers are checked. Nothing is searched: each entry is looked at once."""
+"""By which rules worths and numbers are checked. Nothing is searched: each outcome of each entry is looked at."""
 
-from evenends.wirekeys import door_kinds, door_pairs, kinds_under, pairs_under, tally_behind
+from evenends.totals import Totals
+from evenends.wirekeys import door_kinds, door_pairs
 
 
-def are_worths(net, worths, scale):
+def are_worths(forks, worths, scale):
     """Whether a dict from pairs at wires to worths on a scale keeps to the rules of worths."""
     nothing = scale.total([])
-    if not all([key in worths and worths[key] == nothing for key in door_pairs(net)]):
+    if not all([key in worths and worths[key] == nothing for key in door_pairs(forks.net)]):
         return False
-    return all([is_right_worth(net, worths, key, scale) for key in worths])
+    totals = Totals(forks, scale, worths)
+    return all([is_right_worth(forks, worths, key, scale, totals) for key in worths])
 
 
-def is_right_worth(net, worths, key, scale):
+def is_right_worth(forks, worths, key, scale, totals):
     """Whether the worth of a pair at a wire follows from the tally or from the worths behind the wire."""
     wire, begin, end = key
-    tally = tally_behind(net, wire)
-    if tally is None:
-        return adds_up(worths, key, pairs_under(net, key), scale)
-    return worths[key] == scale.at_tally(tally, begin, end)
+    worth = worths[key]
+    if forks.ends[wire] is not None:
+        return worth == scale.at_tally(forks.ends[wire], begin, end)
+    return all([totals.at(number) == worth for _, number in forks.steps(key)])
 
 
-def are_numbers(net, numbers, scale):
+def are_numbers(forks, numbers, scale):
     """Whether a dict from kinds at wires to worths on a scale keeps to the rules of numbers."""
-    if not all([key in numbers for key in door_kinds(net)]):
+    if not all([key in numbers for key in door_kinds(forks.net)]):
         return False
-    return all([is_right_number(net, numbers, key, scale) for key in numbers])
+    return all([is_right_number(forks, numbers, key, scale) for key in numbers])
 
 
-def is_right_number(net, numbers, key, scale):
+def is_right_number(forks, numbers, key, scale):
     """Whether the number of a kind at a wire follows from the tally or from the numbers behind the wire."""
     wire, kind = key
-    tally = tally_behind(net, wire)
-    if tally is None:
-        return adds_up(numbers, key, kinds_under(net, key), scale)
-    return numbers[key] == scale.at_tally(tally, kind, None)
-
-
-def adds_up(table, key, steps, scale):
-    """Whether the worth of a key is what the keys below it are worth, whichever step is taken."""
-    for _, below in steps:
-        if not all([other in table for other in below]):
+    if forks.ends[wire] is not None:
+        return numbers[key] == scale.at_tally(forks.ends[wire], kind, None)
+    for _, below in forks.rows_for(key):
+        if not all([other in numbers for other in below]):
             return False
-        if scale.total([table[other] for other in below]) != table[key]:
+        if scale.total([numbers[other] for other in below]) != numbers[key]:
             return False
     return True

@@ -62,7 +62,7 @@ LIBRARY = {"math": ["gcd"]}
 STATEMENTS = (ast.Assign, ast.AugAssign, ast.If, ast.While, ast.For, ast.Return, ast.Break, ast.Continue, ast.Pass,
               ast.Raise, ast.With, ast.Try, ast.Expr)
 BUILTINS = {"len", "range", "enumerate", "zip", "min", "max", "sum", "abs", "sorted", "int", "str", "bool", "list",
-            "tuple", "dict", "set", "isinstance", "repr", "any", "all", "ValueError", "TypeError", "IndexError",
+            "tuple", "dict", "set", "isinstance", "repr", "divmod", "any", "all", "ValueError", "TypeError", "IndexError",
             "LookupError", "OverflowError", "property", "staticmethod", "classmethod"}
 METHODS = {"append", "extend", "get", "index", "items", "join", "partition", "pop", "split", "startswith", "update",
            "values", "isalpha", "isascii", "isdigit", "islower", "removeprefix", "replace"}
