@@ -13,7 +13,7 @@ class Fork:
         self._first = station.first
         self._keeps = station.KEEPS
         self._forgets = True in station.FORGETS
-        self.rows = [tuple([None for _ in self._wires])]
+        self.rows = [(None,) * len(self._wires)]
         # For each kind: the rows to which books lead it, each once, with the first such book.
         self._ways = {}
         self._read(station)

@@ -15,8 +15,13 @@ def choices_by(costs):
     """A list of all ascending tuples of the stations that have costs, the cheapest ones first."""
     choices = [()]
     for name in sorted(costs):
-        choices = [*choices, *[(*choice, name) for choice in choices]]
-    return sorted(choices, key=lambda choice: (sum([costs[name] for name in choice]), len(choice), choice))
+        choices = [*choices, *[(*fewer, name) for fewer in choices]]
+    return sorted(choices, key=lambda choice: (cost_of(costs, choice), len(choice), choice))
+
+
+def cost_of(costs, choice):
+    """The sum of the costs of the stations of a choice."""
+    return sum([costs[name] for name in choice])
 
 
 def net_with(net, choice):

@@ -63,7 +63,7 @@ def cheapest(net, costs, errors):
     """The ascending tuple of the tallies whose errors do not follow from those of the tallies before them."""
     counted = []
     stairs = []
-    for name in sorted(net.tallies, key=lambda name: (costs[name], name)):
+    for name in sorted(net.tallies, key=lambda tally: (costs[tally], tally)):
         more = with_point(stairs, tuple([vector[name] for vector in errors.basis]))
         # What follows from others makes the lattice finer at most, but not higher.
         if len(more) > len(stairs):

@@ -59,7 +59,7 @@ class TableScale:
         """A dict from the sums of one worth of each of two lists to two such worths; not all, if more than most."""
         told = {}
         for one, other in unlike_sums(ones, others):
-            total = self.total([one, other])
+            total = self.shortened(plus(one, other))
             if total not in told:
                 told[total] = (one, other)
             if len(told) > most:

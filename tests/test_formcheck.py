@@ -223,6 +223,27 @@ class TestShowsForm(Case):
         self.assertIs(shows_form(less, self.form, form_paper(less)), False)
         self.assertIs(shows_form(self.net, form(less), self.paper), False)
 
+    def test_a_form_with_fewer_doors(self):
+        # All that is told may be right for the doors that the form has, but the net has one more.
+        tally = Tally("t", k=1)
+        one = Net(Door("d", "t", "k"), tally)
+        two = Net(Door("d", "t", "k"), Door("e", "t", "k"), tally)
+        worths, begins, closed, opened = form_paper(two)
+        self.assertIs(shows_form(two, form(two), (worths, begins, closed, opened)), True)
+        for fewer in (opened, {("d", "k"): opened["d", "k"]}):
+            self.assertIs(shows_form(two, form(one), (worths, begins, closed, fewer)), False)
+
+    def test_courses_of_other_nets(self):
+        self.use(KEPT)
+        opened = self.paper[3]
+        row = opened["d", "k"]
+        self.assertEqual(len(row), 2)
+        for net in (PLAIN, FRAIL):
+            for place, course in enumerate(row):
+                other = Course.of(net, "d", "k", course.choices)
+                self.assertEqual(other.begin, course.begin)
+                self.wrong(3, {("d", "k"): row[:place] + (other,) + row[place + 1:]})
+
     def test_residues_that_cannot_be_shown(self):
         # This form has more residues, and this one fewer, than the net.
         for net, other in ((KEPT.without_book("j", "two"), KEPT), (KEPT, KEPT.without_book("j", "two"))):
